@@ -1,0 +1,221 @@
+"""Reads Python files by the rules of ../shared/LANGUAGE.md and tells their faults.
+
+The package uses a part of what these rules allow, and this reader knows that part only. What is
+outside of it is a fault, so a file that needs more of the language has to add it here, by its rule.
+"""
+
+import ast
+import builtins
+import re
+
+PLAIN_NODES = (
+    ast.Module, ast.Expr, ast.ImportFrom, ast.alias, ast.FunctionDef, ast.ClassDef, ast.arguments, ast.arg,
+    ast.Return, ast.Assign, ast.AugAssign, ast.If, ast.While, ast.For, ast.Raise, ast.Call, ast.Name,
+    ast.Attribute, ast.Constant, ast.BoolOp, ast.boolop, ast.UnaryOp, ast.Not, ast.USub, ast.BinOp, ast.Add,
+    ast.Sub, ast.Mult, ast.FloorDiv, ast.Mod, ast.LShift, ast.Compare, ast.Eq, ast.NotEq, ast.Lt, ast.LtE,
+    ast.Gt, ast.GtE, ast.In, ast.NotIn, ast.IfExp, ast.Subscript, ast.Slice, ast.List, ast.Tuple, ast.ListComp,
+    ast.comprehension, ast.JoinedStr, ast.FormattedValue, ast.Yield, ast.expr_context,
+)
+VALUE_NODES = (ast.Constant, ast.List, ast.Tuple, ast.Name, ast.UnaryOp, ast.USub, ast.expr_context)
+CALLED = {"len", "sum", "any", "all", "min", "max", "abs", "sorted", "isinstance", "list", "tuple", "int", "str"}
+OF_A_LIST = {"sum", "any", "all", "sorted"}
+ON_THE_SPOT = {"range", "zip", "enumerate", "reversed"}
+KINDS = {"int", "str", "bool", "tuple", "list", "dict"}
+CHANGING = {"append", "extend", "insert", "pop", "remove", "reverse", "clear"}
+METHODS = CHANGING | {"copy", "count", "index", "find", "join", "split", "replace", "startswith", "endswith"}
+BARRED_NAMES = set(
+    "mro elements open input law version_info with_traceback add_note register attrgetter breakpoint builtins"
+    " compile copyright credits delattr dir eval exec exit gc getattr globals hasattr help id importlib license"
+    " locals methodcaller os quit setattr type vars sys".split()
+)
+BARRED_WORDS = re.compile(
+    r"\b(type|typing|typing_extensions|enum|Enum|IntEnum|StrEnum|Flag|IntFlag|Generic|Protocol|ABC|ABCMeta"
+    r"|namedtuple|NamedTuple|TypedDict|TYPE_CHECKING|abstractmethod)\b|dataclass|overload|contextmanager|_wall"
+)
+
+
+def is_docstring(node):
+    return isinstance(node, ast.Expr) and isinstance(node.value, ast.Constant) and isinstance(node.value.value, str)
+
+
+def bound_names(tree):
+    """Return the names that a tree binds, with the nodes that bind them."""
+    found = []
+    for node in ast.walk(tree):
+        if isinstance(node, (ast.FunctionDef, ast.ClassDef)):
+            found.append((node.name, node))
+        elif isinstance(node, ast.arg):
+            found.append((node.arg, node))
+        elif isinstance(node, ast.Name) and isinstance(node.ctx, ast.Store):
+            found.append((node.id, node))
+    return found
+
+
+class Reader:
+    def __init__(self, source):
+        self.source = source
+        self.tree = ast.parse(source)
+        self.found = []
+        self.parents = {}
+        for node in ast.walk(self.tree):
+            for child in ast.iter_child_nodes(node):
+                self.parents[child] = node
+
+    def fault(self, rule, node):
+        self.found.append((rule, getattr(node, "lineno", 0)))
+
+    def faults(self):
+        self.read_text()
+        self.read_module_level()
+        self.read_names()
+        for node in ast.walk(self.tree):
+            if not isinstance(node, PLAIN_NODES):
+                self.fault("L6", node)
+            reading = getattr(self, "read_" + type(node).__name__, None)
+            if reading is not None:
+                reading(node)
+        return sorted(set(self.found))
+
+    def read_text(self):
+        lines = self.source.split("\n")
+        if len(lines) > 400:
+            self.fault("L10", self.tree)
+        for number, line in enumerate(lines, 1):
+            if len(line) > 120:
+                self.found.append(("L10", number))
+            if not re.fullmatch("[ -~]*", line):
+                self.found.append(("L14", number))
+
+    def read_module_level(self):
+        bound = []
+        for at, node in enumerate(self.tree.body):
+            if isinstance(node, ast.ImportFrom):
+                bound.extend([alias.name for alias in node.names])
+            elif isinstance(node, (ast.FunctionDef, ast.ClassDef)):
+                bound.append(node.name)
+            elif isinstance(node, ast.Assign) and isinstance(node.targets[0], ast.Name):
+                bound.append(node.targets[0].id)
+                if [part for part in ast.walk(node.value) if not isinstance(part, VALUE_NODES)]:
+                    self.fault("L3", node)
+            elif not (at == 0 and is_docstring(node)):
+                self.fault("L3", node)
+        if len(bound) != len(set(bound)):
+            self.fault("L15", self.tree)
+
+    def read_names(self):
+        outer = [alias.name for node in self.tree.body if isinstance(node, ast.ImportFrom) for alias in node.names]
+        outer += [node.name for node in ast.walk(self.tree) if isinstance(node, ast.ClassDef)]
+        for name, node in bound_names(self.tree):
+            if not re.fullmatch("_|__init__|[A-Za-z][A-Za-z0-9_]*", name):
+                self.fault("L12", node)
+            if name in vars(builtins) or (name in outer and not isinstance(node, ast.ClassDef)):
+                self.fault("L15", node)
+            if name in BARRED_NAMES or BARRED_WORDS.search(name):
+                self.fault("L17", node)
+
+    def read_Import(self, node):
+        self.fault("L2", node)
+
+    def read_ImportFrom(self, node):
+        plain = node.level == 0 and (node.module or "").startswith("tilepushes.") and node in self.tree.body
+        if not plain or [alias for alias in node.names if alias.asname is not None or alias.name == "*"]:
+            self.fault("L2", node)
+
+    def read_FunctionDef(self, node):
+        if node.end_lineno - node.lineno >= 40:
+            self.fault("L10", node)
+        if node.decorator_list or node.args.defaults or node.args.kwonlyargs or node.args.vararg or node.args.kwarg:
+            self.fault("L4", node)
+        if node.returns is not None or [arg for arg in node.args.args if arg.annotation is not None]:
+            self.fault("L21", node)
+        if node.name == "__init__" and [part for part in ast.walk(node) if isinstance(part, ast.Return)]:
+            self.fault("L28", node)
+
+    def read_ClassDef(self, node):
+        if node.decorator_list or len(node.bases) > 1 or self.parents[node] is not self.tree:
+            self.fault("L5", node)
+        names = [part.name for part in node.body if isinstance(part, ast.FunctionDef)]
+        plain = [part for part in node.body if isinstance(part, ast.FunctionDef) or is_docstring(part)]
+        if len(plain) != len(node.body) or len(names) != len(set(names)):
+            self.fault("L5", node)
+
+    def read_Assign(self, node):
+        if len(node.targets) > 1 and self.parents[node] is self.tree:
+            self.fault("L6", node)
+
+    def read_Constant(self, node):
+        if not isinstance(node.value, (int, str, type(None))):
+            self.fault("L7", node)
+        if isinstance(node.value, str) and not is_docstring(self.parents[node]):
+            if "%" in node.value or re.fullmatch("__.*__", node.value, re.DOTALL):
+                self.fault("L27", node)
+            if BARRED_WORDS.search(node.value):
+                self.fault("L17", node)
+
+    def read_Name(self, node):
+        parent = self.parents[node]
+        if not isinstance(node.ctx, ast.Load) or node.id not in vars(builtins):
+            return
+        called = isinstance(parent, ast.Call) and parent.func is node
+        if called and (node.id in CALLED or node.id in ON_THE_SPOT):
+            return
+        tested = isinstance(parent, ast.Call) and ast.unparse(parent.func) == "isinstance" and node.id in KINDS
+        based = isinstance(parent, ast.ClassDef) and node.id == "ValueError"
+        if not tested and not based and not (called and node.id == "super"):
+            self.fault("L8", node)
+
+    def read_Attribute(self, node):
+        parent = self.parents[node]
+        if node.attr == "__init__":
+            if ast.unparse(node.value) != "super()":
+                self.fault("L28", node)
+        elif node.attr.startswith("_") or node.attr in BARRED_NAMES:
+            self.fault("L12", node)
+        elif isinstance(parent, ast.Call) and parent.func is node and node.attr not in METHODS:
+            self.fault("L25", node)
+
+    def read_Call(self, node):
+        name = ast.unparse(node.func)
+        if name in OF_A_LIST and not isinstance(node.args[0], (ast.ListComp, ast.Name)):
+            self.fault("L7", node)
+        parent = self.parents[node]
+        if name in ON_THE_SPOT and not (isinstance(parent, (ast.For, ast.comprehension)) and parent.iter is node):
+            self.fault("L23", node)
+
+    def read_For(self, node):
+        walked = {part.id for part in ast.walk(node.iter) if isinstance(part, ast.Name)}
+        for part in [part for line in node.body for part in ast.walk(line)]:
+            changed = None
+            if isinstance(part, ast.Attribute) and part.attr in CHANGING:
+                changed = part.value
+            elif isinstance(part, ast.Subscript) and isinstance(part.ctx, ast.Store):
+                changed = part.value
+            if isinstance(changed, ast.Name) and changed.id in walked:
+                self.fault("L23", part)
+
+    def read_Raise(self, node):
+        if not isinstance(node.exc, ast.Call) or not isinstance(node.exc.func, ast.Name) or node.cause is not None:
+            self.fault("L19", node)
+
+    def read_JoinedStr(self, node):
+        formats = [part for part in node.values if isinstance(part, ast.FormattedValue)]
+        if [part for part in formats if part.conversion != -1 or part.format_spec is not None]:
+            self.fault("L7", node)
+
+
+def faults(source):
+    """Return the faults of a file, each with its rule and its line."""
+    return Reader(source).faults()
+
+
+def imports(source):
+    """Return the imported names of a file, each with its module."""
+    nodes = [node for node in ast.parse(source).body if isinstance(node, ast.ImportFrom)]
+    return [(node.module, alias.name) for node in nodes for alias in node.names]
+
+
+def defined(source):
+    """Return the names of the functions, classes and values that a file itself defines."""
+    body = ast.parse(source).body
+    names = [node.name for node in body if isinstance(node, (ast.FunctionDef, ast.ClassDef))]
+    return names + [node.targets[0].id for node in body if isinstance(node, ast.Assign)]

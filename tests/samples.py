@@ -1,0 +1,79 @@
+"""Values for the tests, and pushes written once more, straight from the points 7 and 8."""
+
+from itertools import groupby, product
+
+HUGE = 10 ** 30
+
+NO_INTEGERS = [True, False, None, "", "0", "L", b"L", (), (0,), [], [0], {}, {0: 1}, set(), object]
+
+NO_ROWS = [
+    None, True, False, 0, 1, "", "0", "L", b"", (), (0, 1), {}, {0: 1}, set(), {0}, frozenset(), range(3), list,
+    [True], [False], [0, True], [None], ["0"], ["L"], [[]], [[0]], [(0,)], [(0, 1)], [{}], [b"0"],
+    [-1], [1001], [0, -1], [0, 1001], [0, 0, None], [0, [0, [0, [0]]]], [-HUGE], [HUGE],
+]
+
+ROWS = [[], [0], [1000], [0, 0], [0, 1000, 0], [7] * 70, list(range(70)), [1000] * 1001]
+
+NO_RUNS = [
+    None, True, False, 0, 1, "", "0x1", b"", (), ((0, 1),), {}, {0: 1}, set(), {(0, 1)}, frozenset(), range(2), tuple,
+    [0], [0, 1], [None], [""], ["01"], [()], [(0,)], [(0, 1, 2)], [[0, 1]], [[]], [{}], [{0: 1, 1: 1}], [b"01"],
+    [{0, 1}], [((0, 1),)], [(0, (1,))], [((0,), 1)],
+    [(0, 0)], [(0, -1)], [(0, -HUGE)], [(-1, 1)], [(1001, 1)], [(HUGE, 1)],
+    [(True, 1)], [(False, 1)], [(0, True)], [(1, False)], [(None, 1)], [(0, None)], [("0", 1)], [(0, "1")],
+    [([], 1)], [(0, [])], [(0, 1), (1, 0)], [(0, 1), (-1, 1)], [(0, 1), [1, 1]], [[0, 1], (1, 1)], [(0, 1), None],
+    [(0, 1), (0, 1)], [(0, 2), (0, 1)], [(0, HUGE), (0, 1)], [(1, 1), (0, 1), (0, 3)], [(0, 1), (0, 1), (1, 1)],
+    [(0, 1), (1, 1), (1, 1), (0, 1)],
+]
+
+RUNS = [
+    [], [(0, 1)], [(1000, 1)], [(0, 10)], [(0, HUGE)], [(0, 1), (1, 1)], [(1, 1), (0, 1)], [(0, 1), (1000, 1), (0, 1)],
+    [(3, HUGE), (2, HUGE), (3, HUGE)], [(level, 1) for level in range(70)],
+]
+
+NO_SIDES = [
+    None, True, False, 0, 1, "", "l", "r", "LR", "RL", "LL", " L", "L ", "0", "X", b"L", b"R", [], ["L"], ("L",), ("R",),
+    {}, {"L": "R"}, {"L"}, str,
+]
+
+NO_PUSHES = [
+    None, True, False, 0, 1, "l", "r", "LRl", "xLR", "LxR", "L R", " ", " L", "L\n", "0", "-", b"", b"L", b"LR",
+    [], ["L"], ["L", "R"], (), ("L",), ("L", "R"), {}, {"L": "R"}, set(), {"L"}, [["L"]], str,
+]
+
+PUSHES = ["", "L", "R", "LR", "RL", "LLLL", "LR" * 100]
+
+
+def short_rows():
+    """Return all rows of few tiles and low levels."""
+    rows = []
+    for many, levels in [(8, 2), (6, 3), (4, 4)]:
+        for length in range(many + 1):
+            rows.extend([list(row) for row in product(range(levels), repeat=length)])
+    return rows
+
+
+def runs_by_groups(row):
+    return [(level, len(list(tiles))) for level, tiles in groupby(row)]
+
+
+def row_by_pairs(row, side):
+    """Return the row after a push, tile by tile, as point 7 says."""
+    if side == "R":
+        return row_by_pairs(row[::-1], "L")[::-1]
+    after, left = [], list(row)
+    while left:
+        level = left.pop(0)
+        if left and left[0] == level:
+            left.pop(0)
+            level += 1
+        after.append(level)
+    return after
+
+
+def row_by_runs(row, side):
+    """Return the row after a push, run by run, as point 8 says."""
+    after = []
+    for level, many in runs_by_groups(row):
+        made, single = [level + 1] * (many // 2), [level] * (many % 2)
+        after.extend(made + single if side == "L" else single + made)
+    return after

@@ -1,0 +1,100 @@
+"""Tests that the files of the package keep ../shared/LANGUAGE.md."""
+
+import re
+import unittest
+from pathlib import Path
+
+from tests.language import defined, faults, imports
+
+PACKAGE = Path(__file__).resolve().parent.parent / "tilepushes"
+
+INTERFACE = {
+    "errors": [
+        "TileError", "InvalidRow", "InvalidRuns", "InvalidSide", "InvalidPushes", "InvalidLevel", "InvalidNumber",
+        "InvalidIndex", "InvalidText", "InvalidCommand", "NotPushes", "NoMountain", "NotBefore", "NothingToUndo",
+        "NoTray", "TooLarge", "TooFew",
+    ],
+    "rows": ["is_row", "is_runs", "is_pushes", "runs_of", "row_of", "mirrored", "worth_of"],
+    "pushing": ["push_row", "push_runs", "pushed", "push_steps", "is_still", "side_matters", "settle"],
+}
+
+# For each rule a function that breaks it, so that the reader itself is tested.
+BROKEN = [
+    ("L2", "import heapq"), ("L2", "from os import path"), ("L2", "from .rows import is_row"),
+    ("L2", "from tilepushes.rows import *"), ("L2", "from tilepushes.rows import is_row as row"),
+    ("L2", "def f():\n    from tilepushes.rows import is_row\n    return is_row"),
+    ("L3", "f(1)"), ("L3", "SIZE = len((1, 2))"), ("L3", "if True:\n    SIZE = 1"),
+    ("L4", "@f\ndef g():\n    return 1"), ("L4", "def f(*rest):\n    return rest"),
+    ("L5", "class A:\n    size = 1"), ("L5", "class A:\n    def f(self):\n        return 1\n    f = 2"),
+    ("L6", "def f():\n    global SIZE\n    SIZE = 1"), ("L6", "async def f():\n    return 1"),
+    ("L6", "def f(a):\n    return a / 2"), ("L6", "def f(a):\n    return {a: a}"), ("L6", "def f(a):\n    return 2 ** a"),
+    ("L6", "def f(a):\n    return sum(b for b in a)"), ("L6", "def f(a):\n    try:\n        a.pop()\n    except KeyError:\n"
+     "        return a"), ("L6", "def f(a):\n    return lambda b: a"), ("L6", "SIZE = WIDTH = 1"),
+    ("L7", "def f():\n    return 1.5"), ("L7", "def f():\n    return b'a'"), ("L7", "def f(a):\n    return f'{a!r}'"),
+    ("L7", "def f(a, b):\n    return any(a + b)"),
+    ("L8", "def f(a):\n    return print(a)"), ("L8", "def f(a):\n    return hash(a)"), ("L8", "def f():\n    return len"),
+    ("L8", "def f(a):\n    return map(str, a)"), ("L8", "class A(KeyError):\n    pass"),
+    ("L10", "def f():\n" + "    a = 1\n" * 40), ("L10", "# " + "a" * 120), ("L10", "a = 1\n" * 400),
+    ("L12", "def __f():\n    return 1"), ("L12", "def f(a):\n    return a._row"),
+    ("L14", "# \t"), ("L14", "# \u00e4"),
+    ("L15", "def len():\n    return 1"), ("L15", "def f(sum):\n    return sum"), ("L15", "a = 1\na = 2"),
+    ("L15", "from tilepushes.rows import is_row\ndef f(is_row):\n    return is_row"),
+    ("L17", "def f(register):\n    return register"), ("L17", "def f(law):\n    return law"),
+    ("L17", "def f():\n    return 'the type of a'"), ("L17", "def typing():\n    return 1"),
+    ("L19", "def f(a):\n    raise a"), ("L19", "def f(a):\n    raise KeyError"),
+    ("L21", "def f(a: int):\n    return a"), ("L21", "def f(a) -> int:\n    return a"),
+    ("L23", "def f(a):\n    b = zip(a, a)\n    return list(b)"), ("L23", "def f(a):\n    for b in a:\n        a.append(b)"),
+    ("L23", "def f(a):\n    for b in range(len(a)):\n        a[b] = 1"),
+    ("L25", "def f(a):\n    return a.encode()"), ("L25", "def f(a):\n    return a.isdigit(1)"),
+    ("L27", "def f():\n    return '5 %'"), ("L27", "def f():\n    return '__f__'"),
+    ("L28", "class A:\n    def __init__(self):\n        return None"),
+    ("L28", "class A:\n    def __init__(self):\n        A.__init__(self)"),
+]
+
+
+def sources():
+    return {path.stem: path.read_text(encoding="utf-8") for path in sorted(PACKAGE.glob("*.py"))}
+
+
+class LanguageTests(unittest.TestCase):
+    def test_the_files_keep_the_rules(self):
+        for name, source in sources().items():
+            with self.subTest(name):
+                self.assertEqual(faults(source), [])
+
+    def test_the_reader_finds_faults(self):
+        for rule, source in BROKEN:
+            with self.subTest(rule, source=source[:60]):
+                self.assertIn(rule, [found for found, line in faults(source)])
+
+    def test_the_folder_holds_plain_files_only(self):
+        names = [path.name for path in PACKAGE.iterdir() if path.name != "__pycache__"]
+        self.assertEqual([name for name in names if not re.fullmatch(r"(__init__|[a-z][a-z0-9_]*)\.py", name)], [])
+        self.assertIn("__init__.py", names)
+
+    def test_imports_name_the_file_that_defines(self):
+        found = sources()
+        for name, source in found.items():
+            for module, imported in imports(source):
+                with self.subTest(name, imported=imported):
+                    self.assertIn(imported, defined(found[module.removeprefix("tilepushes.")]))
+
+    def test_no_two_files_import_from_each_other(self):
+        needs = {
+            name: {module.removeprefix("tilepushes.") for module, imported in imports(source)}
+            for name, source in sources().items()
+        }
+        while needs:
+            free = [name for name, needed in needs.items() if not needed & set(needs)]
+            self.assertNotEqual(free, [], needs)
+            needs = {name: needed for name, needed in needs.items() if name not in free}
+
+    def test_the_interface_is_defined_in_its_files(self):
+        found = sources()
+        for name, listed in INTERFACE.items():
+            with self.subTest(name):
+                self.assertEqual([each for each in listed if each not in defined(found[name])], [])
+
+
+if __name__ == "__main__":
+    unittest.main()

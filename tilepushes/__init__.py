@@ -1,0 +1,1 @@
+"""Rows of tiles that are pushed together."""
