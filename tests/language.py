@@ -12,17 +12,24 @@ PLAIN_NODES = (
     ast.Module, ast.Expr, ast.ImportFrom, ast.alias, ast.FunctionDef, ast.ClassDef, ast.arguments, ast.arg,
     ast.Return, ast.Assign, ast.AugAssign, ast.If, ast.While, ast.For, ast.Raise, ast.Call, ast.Name,
     ast.Attribute, ast.Constant, ast.BoolOp, ast.boolop, ast.UnaryOp, ast.Not, ast.USub, ast.BinOp, ast.Add,
-    ast.Sub, ast.Mult, ast.FloorDiv, ast.Mod, ast.LShift, ast.Compare, ast.Eq, ast.NotEq, ast.Lt, ast.LtE,
-    ast.Gt, ast.GtE, ast.In, ast.NotIn, ast.IfExp, ast.Subscript, ast.Slice, ast.List, ast.Tuple, ast.ListComp,
-    ast.comprehension, ast.JoinedStr, ast.FormattedValue, ast.Yield, ast.expr_context,
+    ast.Sub, ast.Mult, ast.FloorDiv, ast.Mod, ast.LShift, ast.RShift, ast.Compare, ast.Eq, ast.NotEq, ast.Lt, ast.LtE,
+    ast.Gt, ast.GtE, ast.In, ast.NotIn, ast.IfExp, ast.Subscript, ast.Slice, ast.List, ast.Tuple, ast.Dict,
+    ast.ListComp, ast.SetComp, ast.comprehension, ast.JoinedStr, ast.FormattedValue, ast.Yield, ast.expr_context,
+    ast.keyword,
 )
-VALUE_NODES = (ast.Constant, ast.List, ast.Tuple, ast.Name, ast.UnaryOp, ast.USub, ast.expr_context)
-CALLED = {"len", "sum", "any", "all", "min", "max", "abs", "sorted", "isinstance", "list", "tuple", "int", "str"}
-OF_A_LIST = {"sum", "any", "all", "sorted"}
+VALUE_NODES = (ast.Constant, ast.List, ast.Tuple, ast.Dict, ast.Name, ast.UnaryOp, ast.USub, ast.expr_context)
+CALLED = {"len", "sum", "any", "all", "min", "max", "abs", "sorted", "isinstance", "list", "tuple", "int", "str", "set"}
+OF_A_LIST = {"sum": (ast.ListComp, ast.Name), "any": (ast.ListComp, ast.Name), "all": (ast.ListComp, ast.Name)}
+OF_A_LIST["sorted"] = (ast.ListComp, ast.Name, ast.Subscript, ast.SetComp)
 ON_THE_SPOT = {"range", "zip", "enumerate", "reversed"}
 KINDS = {"int", "str", "bool", "tuple", "list", "dict"}
 CHANGING = {"append", "extend", "insert", "pop", "remove", "reverse", "clear"}
-METHODS = CHANGING | {"copy", "count", "index", "find", "join", "split", "replace", "startswith", "endswith"}
+VIEWS = {"items", "keys", "values"}
+METHODS = CHANGING | VIEWS | {"copy", "count", "index", "find", "join", "split", "replace", "startswith", "endswith"}
+METHODS |= {"bit_length", "get"}
+# The operators, each with the number of its parameters. They change nothing.
+OPERATORS = {"__eq__": 2, "__add__": 2, "__mul__": 2, "__neg__": 1, "__len__": 1, "__getitem__": 2, "__contains__": 2}
+DUNDERS = {"__init__", "__call__", "__iter__"} | set(OPERATORS)
 BARRED_NAMES = set(
     "mro elements open input law version_info with_traceback add_note register attrgetter breakpoint builtins"
     " compile copyright credits delattr dir eval exec exit gc getattr globals hasattr help id importlib license"
@@ -36,6 +43,26 @@ BARRED_WORDS = re.compile(
 
 def is_docstring(node):
     return isinstance(node, ast.Expr) and isinstance(node.value, ast.Constant) and isinstance(node.value.value, str)
+
+
+def is_property(node):
+    return [ast.unparse(decorator) for decorator in node.decorator_list] == ["property"]
+
+
+def body_of(node):
+    """Return the lines of a function or a class without its docstring."""
+    return node.body[1:] if is_docstring(node.body[0]) else node.body
+
+
+def changes(function):
+    """Return the nodes in a function that may change what others hold: an attribute, an item, a list."""
+    found = []
+    for node in ast.walk(function):
+        if isinstance(node, (ast.Attribute, ast.Subscript)) and not isinstance(node.ctx, ast.Load):
+            found.append(node)
+        elif isinstance(node, ast.Attribute) and node.attr in CHANGING:
+            found.append(node)
+    return found
 
 
 def bound_names(tree):
@@ -106,7 +133,8 @@ class Reader:
         outer = [alias.name for node in self.tree.body if isinstance(node, ast.ImportFrom) for alias in node.names]
         outer += [node.name for node in ast.walk(self.tree) if isinstance(node, ast.ClassDef)]
         for name, node in bound_names(self.tree):
-            if not re.fullmatch("_|__init__|[A-Za-z][A-Za-z0-9_]*", name):
+            method = isinstance(node, ast.FunctionDef) and isinstance(self.parents[node], ast.ClassDef)
+            if not re.fullmatch("_|[A-Za-z][A-Za-z0-9_]*", name) and not (method and name in DUNDERS):
                 self.fault("L12", node)
             if name in vars(builtins) or (name in outer and not isinstance(node, ast.ClassDef)):
                 self.fault("L15", node)
@@ -124,11 +152,24 @@ class Reader:
     def read_FunctionDef(self, node):
         if node.end_lineno - node.lineno >= 40:
             self.fault("L10", node)
-        if node.decorator_list or node.args.defaults or node.args.kwonlyargs or node.args.vararg or node.args.kwarg:
+        if node.decorator_list and not (is_property(node) and len(node.args.args) == 1):
+            self.fault("L4", node)
+        if node.args.defaults or node.args.kwonlyargs or node.args.vararg or node.args.kwarg:
             self.fault("L4", node)
         if node.returns is not None or [arg for arg in node.args.args if arg.annotation is not None]:
             self.fault("L21", node)
         if node.name == "__init__" and [part for part in ast.walk(node) if isinstance(part, ast.Return)]:
+            self.fault("L28", node)
+        if node.name in OPERATORS or is_property(node):
+            self.read_operator(node)
+
+    def read_operator(self, node):
+        if len(node.args.args) != OPERATORS.get(node.name, 1) or changes(node):
+            self.fault("L5", node)
+        told = [ast.unparse(line) for line in body_of(node)]
+        beginnings = {"__eq__": r"return isinstance\(other, \w+\) and ", "__len__": r"return len\("}
+        beginning = beginnings.get(node.name, "")
+        if beginning and (len(told) != 1 or not re.match(beginning, told[0])):
             self.fault("L28", node)
 
     def read_ClassDef(self, node):
@@ -138,6 +179,13 @@ class Reader:
         plain = [part for part in node.body if isinstance(part, ast.FunctionDef) or is_docstring(part)]
         if len(plain) != len(node.body) or len(names) != len(set(names)):
             self.fault("L5", node)
+        if "__getitem__" in names and "__iter__" not in names:
+            self.fault("L5", node)
+        for part in plain:
+            # Python would else iterate by `__getitem__`, so `__iter__` does nothing but forbid it.
+            if getattr(part, "name", "") == "__iter__":
+                if len(body_of(part)) != 1 or not ast.unparse(part.body[-1]).startswith("raise TypeError("):
+                    self.fault("L5", part)
 
     def read_Assign(self, node):
         if len(node.targets) > 1 and self.parents[node] is self.tree:
@@ -161,7 +209,9 @@ class Reader:
             return
         tested = isinstance(parent, ast.Call) and ast.unparse(parent.func) == "isinstance" and node.id in KINDS
         based = isinstance(parent, ast.ClassDef) and node.id == "ValueError"
-        if not tested and not based and not (called and node.id == "super"):
+        told = isinstance(parent, ast.FunctionDef) and node in parent.decorator_list and node.id == "property"
+        raised = called and isinstance(self.parents[parent], ast.Raise) and node.id == "TypeError"
+        if not tested and not based and not told and not raised and not (called and node.id == "super"):
             self.fault("L8", node)
 
     def read_Attribute(self, node):
@@ -169,18 +219,50 @@ class Reader:
         if node.attr == "__init__":
             if ast.unparse(node.value) != "super()":
                 self.fault("L28", node)
-        elif node.attr.startswith("_") or node.attr in BARRED_NAMES:
+        elif not re.fullmatch("_?[A-Za-z][A-Za-z0-9_]*", node.attr) or node.attr in BARRED_NAMES:
             self.fault("L12", node)
+        elif node.attr.startswith("_") and not self.in_class(node):
+            self.fault("L12", node)
+        elif node.attr in VIEWS and not self.on_the_spot(parent):
+            self.fault("L23", node)
         elif isinstance(parent, ast.Call) and parent.func is node and node.attr not in METHODS:
             self.fault("L25", node)
 
+    def in_class(self, node):
+        while node is not self.tree and not isinstance(node, ast.ClassDef):
+            node = self.parents[node]
+        return isinstance(node, ast.ClassDef)
+
+    def on_the_spot(self, node):
+        """Return whether a call is iterated where it stands, by itself or through an enumerate or a zip."""
+        parent = self.parents[node]
+        if isinstance(parent, ast.Call) and ast.unparse(parent.func) in {"enumerate", "zip"}:
+            return self.on_the_spot(parent)
+        return isinstance(parent, (ast.For, ast.comprehension)) and parent.iter is node
+
+    def measured_or_sorted(self, node):
+        parent = self.parents[node]
+        alone = isinstance(parent, ast.Call) and len(parent.args) == 1 and not parent.keywords
+        return alone and ast.unparse(parent.func) in {"len", "sorted"}
+
+    def read_SetComp(self, node):
+        if not self.measured_or_sorted(node):
+            self.fault("L24", node)
+
+    def read_keyword(self, node):
+        parent = self.parents[node]
+        plain = isinstance(parent, ast.Call) and ast.unparse(parent.func) == "sorted" and node.arg == "reverse"
+        if not plain or not isinstance(node.value, ast.Constant):
+            self.fault("L22", node)
+
     def read_Call(self, node):
         name = ast.unparse(node.func)
-        if name in OF_A_LIST and not isinstance(node.args[0], (ast.ListComp, ast.Name)):
+        if name in OF_A_LIST and not isinstance(node.args[0], OF_A_LIST[name]):
             self.fault("L7", node)
-        parent = self.parents[node]
-        if name in ON_THE_SPOT and not (isinstance(parent, (ast.For, ast.comprehension)) and parent.iter is node):
+        if name in ON_THE_SPOT and not self.on_the_spot(node):
             self.fault("L23", node)
+        if name == "set" and not self.measured_or_sorted(node):
+            self.fault("L24", node)
 
     def read_For(self, node):
         walked = {part.id for part in ast.walk(node.iter) if isinstance(part, ast.Name)}
@@ -219,3 +301,33 @@ def defined(source):
     body = ast.parse(source).body
     names = [node.name for node in body if isinstance(node, (ast.FunctionDef, ast.ClassDef))]
     return names + [node.targets[0].id for node in body if isinstance(node, ast.Assign)]
+
+
+def methods(source, name):
+    """Return the names of the methods and properties in the body of a class."""
+    found = [node for node in ast.parse(source).body if isinstance(node, ast.ClassDef) and node.name == name]
+    return [part.name for node in found for part in node.body if isinstance(part, ast.FunctionDef)]
+
+
+def called_names(function):
+    calls = [node.func for node in ast.walk(function) if isinstance(node, ast.Call)]
+    return {call.id for call in calls if isinstance(call, ast.Name)}
+
+
+def changing_behind_operators(sources):
+    """Return the names of the functions that an operator or a property calls, itself or through others,
+    and that may change something."""
+    functions, calling = {}, set()
+    for source in sources:
+        for node in ast.walk(ast.parse(source)):
+            if isinstance(node, ast.FunctionDef):
+                functions[node.name] = node
+                if node.name in OPERATORS or is_property(node):
+                    calling |= called_names(node)
+    reached = set()
+    while calling - reached:
+        name = sorted(calling - reached)[0]
+        reached.add(name)
+        if name in functions:
+            calling |= called_names(functions[name])
+    return sorted(name for name in reached if name in functions and changes(functions[name]))

@@ -77,3 +77,20 @@ def row_by_runs(row, side):
         made, single = [level + 1] * (many // 2), [level] * (many % 2)
         after.extend(made + single if side == "L" else single + made)
     return after
+
+
+def lists_of_pushes(most):
+    """Return all lists of at most so many pushes, the short ones first, each length in alphabetical order."""
+    return ["".join(sides) for many in range(most + 1) for sides in product("LR", repeat=many)]
+
+
+def row_by_list(row, pushes):
+    """Return the row after a list of pushes, tile by tile."""
+    after = list(row)
+    for side in pushes:
+        after = row_by_pairs(after, side)
+    return after
+
+
+def is_still_row(row):
+    return all(one != other for one, other in zip(row, row[1:]))

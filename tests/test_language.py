@@ -4,7 +4,7 @@ import re
 import unittest
 from pathlib import Path
 
-from tests.language import defined, faults, imports
+from tests.language import changing_behind_operators, defined, faults, imports, methods
 
 PACKAGE = Path(__file__).resolve().parent.parent / "tilepushes"
 
@@ -16,6 +16,21 @@ INTERFACE = {
     ],
     "rows": ["is_row", "is_runs", "is_pushes", "runs_of", "row_of", "mirrored", "worth_of"],
     "pushing": ["push_row", "push_runs", "pushed", "push_steps", "is_still", "side_matters", "settle"],
+    "pushlists": ["Pushes"],
+    "origins": ["origins", "meeting_push", "height_at"],
+    "mountains": [
+        "is_mountain", "mountain_after", "count_mountains", "nth_mountain", "mountain_number", "sides_of",
+        "parting_number",
+    ],
+    "ends": ["rows_after", "ends_of", "fewest_tiles", "find_pushes", "count_pushes"],
+}
+
+# The methods that the interface lists for a class, which stand in that class itself.
+METHODS = {
+    ("pushlists", "Pushes"): [
+        "__init__", "written", "__add__", "__mul__", "__neg__", "__len__", "__getitem__", "__contains__", "__iter__",
+        "__eq__", "__call__",
+    ],
 }
 
 # For each rule a function that breaks it, so that the reader itself is tested.
@@ -25,9 +40,17 @@ BROKEN = [
     ("L2", "def f():\n    from tilepushes.rows import is_row\n    return is_row"),
     ("L3", "f(1)"), ("L3", "SIZE = len((1, 2))"), ("L3", "if True:\n    SIZE = 1"),
     ("L4", "@f\ndef g():\n    return 1"), ("L4", "def f(*rest):\n    return rest"),
+    ("L4", "@property\ndef f():\n    return 1"), ("L4", "class A:\n    @staticmethod\n    def f(a):\n        return a"),
+    ("L5", "class A:\n    def __getitem__(self, at):\n        return at"),
+    ("L5", "class A:\n    def __iter__(self):\n        return self.rows"),
+    ("L5", "class A:\n    def __neg__(self):\n        self.rows = 1"),
+    ("L5", "class A:\n    def __add__(self, b):\n        self.rows[0] = b"),
+    ("L5", "class A:\n    def __mul__(self, b):\n        return self.rows.append(b)"),
+    ("L5", "class A:\n    @property\n    def f(self):\n        self.rows = 1"),
+    ("L5", "class A:\n    def __contains__(self):\n        return 1"),
     ("L5", "class A:\n    size = 1"), ("L5", "class A:\n    def f(self):\n        return 1\n    f = 2"),
     ("L6", "def f():\n    global SIZE\n    SIZE = 1"), ("L6", "async def f():\n    return 1"),
-    ("L6", "def f(a):\n    return a / 2"), ("L6", "def f(a):\n    return {a: a}"), ("L6", "def f(a):\n    return 2 ** a"),
+    ("L6", "def f(a):\n    return a / 2"), ("L6", "def f(a):\n    return {a}"), ("L6", "def f(a):\n    return 2 ** a"),
     ("L6", "def f(a):\n    return sum(b for b in a)"), ("L6", "def f(a):\n    try:\n        a.pop()\n    except KeyError:\n"
      "        return a"), ("L6", "def f(a):\n    return lambda b: a"), ("L6", "SIZE = WIDTH = 1"),
     ("L7", "def f():\n    return 1.5"), ("L7", "def f():\n    return b'a'"), ("L7", "def f(a):\n    return f'{a!r}'"),
@@ -36,6 +59,8 @@ BROKEN = [
     ("L8", "def f(a):\n    return map(str, a)"), ("L8", "class A(KeyError):\n    pass"),
     ("L10", "def f():\n" + "    a = 1\n" * 40), ("L10", "# " + "a" * 120), ("L10", "a = 1\n" * 400),
     ("L12", "def __f():\n    return 1"), ("L12", "def f(a):\n    return a._row"),
+    ("L12", "def __len__(a):\n    return 1"), ("L12", "class A:\n    def f(self):\n        return self.__row"),
+    ("L12", "class A:\n    def __hash__(self):\n        return 1"),
     ("L14", "# \t"), ("L14", "# \u00e4"),
     ("L15", "def len():\n    return 1"), ("L15", "def f(sum):\n    return sum"), ("L15", "a = 1\na = 2"),
     ("L15", "from tilepushes.rows import is_row\ndef f(is_row):\n    return is_row"),
@@ -45,10 +70,16 @@ BROKEN = [
     ("L21", "def f(a: int):\n    return a"), ("L21", "def f(a) -> int:\n    return a"),
     ("L23", "def f(a):\n    b = zip(a, a)\n    return list(b)"), ("L23", "def f(a):\n    for b in a:\n        a.append(b)"),
     ("L23", "def f(a):\n    for b in range(len(a)):\n        a[b] = 1"),
+    ("L22", "def f(a):\n    return sorted(a, key=len)"), ("L22", "def f(a, b):\n    return sorted(a, reverse=b)"),
+    ("L23", "def f(a):\n    return a.items()"), ("L23", "def f(a):\n    b = enumerate(zip(a, a))\n    return b"),
+    ("L24", "def f(a):\n    return set(a)"), ("L24", "def f(a):\n    return list({b for b in a})"),
+    ("L24", "def f(a):\n    return sorted({b for b in a}, reverse=True)"),
     ("L25", "def f(a):\n    return a.encode()"), ("L25", "def f(a):\n    return a.isdigit(1)"),
     ("L27", "def f():\n    return '5 %'"), ("L27", "def f():\n    return '__f__'"),
     ("L28", "class A:\n    def __init__(self):\n        return None"),
     ("L28", "class A:\n    def __init__(self):\n        A.__init__(self)"),
+    ("L28", "class A:\n    def __eq__(self, other):\n        return self.a == other.a"),
+    ("L28", "class A:\n    def __len__(self):\n        return self.a"),
 ]
 
 
@@ -72,6 +103,15 @@ class LanguageTests(unittest.TestCase):
         self.assertEqual([name for name in names if not re.fullmatch(r"(__init__|[a-z][a-z0-9_]*)\.py", name)], [])
         self.assertIn("__init__.py", names)
 
+    def test_operators_change_nothing(self):
+        self.assertEqual(changing_behind_operators(sources().values()), [])
+        behind = "class A:\n    def __neg__(self):\n        return f(self)\n\n\ndef f(a):\n    return g(a)\n\n\n"
+        self.assertEqual(changing_behind_operators([behind, "def g(a):\n    a.n = 1\n"]), ["g"])
+
+    def test_words_that_a_package_with_indexed_objects_bars(self):
+        for name, source in sources().items():
+            self.assertEqual(re.findall(r"\(type\)|Meta|metaclass=", source), [], name)
+
     def test_imports_name_the_file_that_defines(self):
         found = sources()
         for name, source in found.items():
@@ -94,6 +134,12 @@ class LanguageTests(unittest.TestCase):
         for name, listed in INTERFACE.items():
             with self.subTest(name):
                 self.assertEqual([each for each in listed if each not in defined(found[name])], [])
+
+    def test_the_methods_stand_in_their_classes(self):
+        found = sources()
+        for (name, owner), listed in METHODS.items():
+            with self.subTest(owner):
+                self.assertEqual([each for each in listed if each not in methods(found[name], owner)], [])
 
 
 if __name__ == "__main__":

@@ -3,6 +3,7 @@
 import copy
 import unittest
 
+from tests.checks import ErrorChecks
 from tests.samples import HUGE, NO_PUSHES, NO_ROWS, NO_RUNS, NO_SIDES
 from tilepushes.errors import InvalidPushes, InvalidRow, InvalidRuns, InvalidSide
 from tilepushes.pushing import is_still, push_row, push_runs, push_steps, pushed, settle, side_matters
@@ -12,13 +13,7 @@ def steps_list(runs, pushes):
     return list(push_steps(runs, pushes))
 
 
-class WrongArgumentTests(unittest.TestCase):
-    def check_raises(self, expected, function, *arguments):
-        with self.subTest(function.__name__, arguments=str(arguments)[:60]):
-            with self.assertRaises(expected) as caught:
-                function(*arguments)
-            self.assertIs(type(caught.exception), expected)
-
+class WrongArgumentTests(ErrorChecks):
     def test_rows(self):
         for row in NO_ROWS:
             self.check_raises(InvalidRow, push_row, row, "L")

@@ -4,27 +4,38 @@ from tilepushes.errors import InvalidPushes
 from tilepushes.rows import check_pushes, check_row, check_runs, check_side, joined
 
 
-def row_after_left(row):
-    """Return the row after a push to L."""
-    after = []
+def parts_after_left(row):
+    """Return, for each tile after a push to L, the indexes of the first and the last tile it is made of."""
+    parts = []
     at = 0
     while at < len(row):
+        last = at
         if at + 1 < len(row) and row[at] == row[at + 1]:
-            after.append(row[at] + 1)
-            at += 2
-        else:
-            after.append(row[at])
-            at += 1
-    return after
+            last = at + 1
+        parts.append((at, last))
+        at = last + 1
+    return parts
+
+
+def parts_after(row, side):
+    """Return, for each tile after a push, the indexes of the first and the last tile it is made of."""
+    if side == "R":
+        end = len(row) - 1
+        return [(end - last, end - first) for first, last in parts_after_left(row[::-1])[::-1]]
+    return parts_after_left(row)
+
+
+def row_after(row, side):
+    """Return the row after a push to a side."""
+    # A tile that is made of two tiles has the next level.
+    return [row[first] + last - first for first, last in parts_after(row, side)]
 
 
 def push_row(row, side):
     """Return the row after a push to a side."""
     check_row(row)
     check_side(side)
-    if side == "R":
-        return row_after_left(row[::-1])[::-1]
-    return row_after_left(row)
+    return row_after(row, side)
 
 
 def runs_after_left(runs):

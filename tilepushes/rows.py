@@ -1,9 +1,10 @@
 """Rows, runs and lists of pushes: what they are, and one from the other."""
 
-from tilepushes.errors import InvalidPushes, InvalidRow, InvalidRuns, InvalidSide, TooLarge
+from tilepushes.errors import InvalidIndex, InvalidPushes, InvalidRow, InvalidRuns, InvalidSide, TooLarge
 
 GREATEST_LEVEL = 1000
 MOST_TILES = 1000
+MOST_PUSHES = 200
 SIDES = ("L", "R")
 
 
@@ -12,9 +13,14 @@ def is_whole(value):
     return isinstance(value, int) and not isinstance(value, bool)
 
 
+def is_whole_within(value, least, most):
+    """Return whether a value is an integer from one number to another one."""
+    return is_whole(value) and least <= value <= most
+
+
 def is_level(value):
     """Return whether a value is a level."""
-    return is_whole(value) and 0 <= value <= GREATEST_LEVEL
+    return is_whole_within(value, 0, GREATEST_LEVEL)
 
 
 def is_run(value):
@@ -69,6 +75,12 @@ def check_pushes(pushes):
     """Raise InvalidPushes if a value is not a list of pushes."""
     if not is_pushes(pushes):
         raise InvalidPushes("a list of pushes is a string of L and R")
+
+
+def check_index(index, many):
+    """Raise InvalidIndex if a value is not the index of one of so many things."""
+    if not is_whole_within(index, 0, many - 1):
+        raise InvalidIndex("an index is an integer from 0 to the number of things less 1")
 
 
 def joined(pieces):
