@@ -15,18 +15,19 @@ PLAIN_NODES = (
     ast.Sub, ast.Mult, ast.FloorDiv, ast.Mod, ast.LShift, ast.RShift, ast.Compare, ast.Eq, ast.NotEq, ast.Lt, ast.LtE,
     ast.Gt, ast.GtE, ast.In, ast.NotIn, ast.IfExp, ast.Subscript, ast.Slice, ast.List, ast.Tuple, ast.Dict,
     ast.ListComp, ast.SetComp, ast.comprehension, ast.JoinedStr, ast.FormattedValue, ast.Yield, ast.expr_context,
-    ast.keyword,
+    ast.keyword, ast.Is, ast.IsNot, ast.Starred, ast.DictComp,
 )
 VALUE_NODES = (ast.Constant, ast.List, ast.Tuple, ast.Dict, ast.Name, ast.UnaryOp, ast.USub, ast.expr_context)
 CALLED = {"len", "sum", "any", "all", "min", "max", "abs", "sorted", "isinstance", "list", "tuple", "int", "str", "set"}
 OF_A_LIST = {"sum": (ast.ListComp, ast.Name), "any": (ast.ListComp, ast.Name), "all": (ast.ListComp, ast.Name)}
 OF_A_LIST["sorted"] = (ast.ListComp, ast.Name, ast.Subscript, ast.SetComp)
+OF_A_VIEW = {"sum", "list", "sorted", "tuple"}
 ON_THE_SPOT = {"range", "zip", "enumerate", "reversed"}
 KINDS = {"int", "str", "bool", "tuple", "list", "dict"}
 CHANGING = {"append", "extend", "insert", "pop", "remove", "reverse", "clear"}
 VIEWS = {"items", "keys", "values"}
 METHODS = CHANGING | VIEWS | {"copy", "count", "index", "find", "join", "split", "replace", "startswith", "endswith"}
-METHODS |= {"bit_length", "get"}
+METHODS |= {"bit_length", "get", "partition"}
 # The operators, each with the number of its parameters. They change nothing.
 OPERATORS = {"__eq__": 2, "__add__": 2, "__mul__": 2, "__neg__": 1, "__len__": 1, "__getitem__": 2, "__contains__": 2}
 DUNDERS = {"__init__", "__call__", "__iter__"} | set(OPERATORS)
@@ -45,8 +46,35 @@ def is_docstring(node):
     return isinstance(node, ast.Expr) and isinstance(node.value, ast.Constant) and isinstance(node.value.value, str)
 
 
+def decorators(node):
+    return [ast.unparse(decorator) for decorator in node.decorator_list]
+
+
 def is_property(node):
-    return [ast.unparse(decorator) for decorator in node.decorator_list] == ["property"]
+    return decorators(node) == ["property"] and parameters(node.args) == ["self"]
+
+
+def is_class_method(node):
+    return decorators(node) == ["classmethod"] and parameters(node.args)[:1] == ["cls"]
+
+
+def is_view(node):
+    return isinstance(node, ast.Call) and isinstance(node.func, ast.Attribute) and node.func.attr in VIEWS
+
+
+def parameters(arguments):
+    """Return the names of all parameters of a function, those with a star last."""
+    every = arguments.posonlyargs + arguments.args + arguments.kwonlyargs + [arguments.vararg, arguments.kwarg]
+    return [each.arg for each in every if each is not None]
+
+
+def is_plain_value(node):
+    return isinstance(node, ast.Constant) and isinstance(node.value, (int, str, type(None)))
+
+
+def is_class_value(node):
+    plain = isinstance(node, ast.Assign) and len(node.targets) == 1 and isinstance(node.targets[0], ast.Name)
+    return plain and is_plain_value(node.value)
 
 
 def body_of(node):
@@ -79,8 +107,9 @@ def bound_names(tree):
 
 
 class Reader:
-    def __init__(self, source):
+    def __init__(self, source, own):
         self.source = source
+        self.own = own
         self.tree = ast.parse(source)
         self.found = []
         self.parents = {}
@@ -134,7 +163,9 @@ class Reader:
         outer += [node.name for node in ast.walk(self.tree) if isinstance(node, ast.ClassDef)]
         for name, node in bound_names(self.tree):
             method = isinstance(node, ast.FunctionDef) and isinstance(self.parents[node], ast.ClassDef)
-            if not re.fullmatch("_|[A-Za-z][A-Za-z0-9_]*", name) and not (method and name in DUNDERS):
+            if not re.fullmatch("_|_?[A-Za-z][A-Za-z0-9_]*", name) and not (method and name in DUNDERS):
+                self.fault("L12", node)
+            if isinstance(node, ast.ClassDef) and name.startswith("_"):
                 self.fault("L12", node)
             if name in vars(builtins) or (name in outer and not isinstance(node, ast.ClassDef)):
                 self.fault("L15", node)
@@ -152,16 +183,26 @@ class Reader:
     def read_FunctionDef(self, node):
         if node.end_lineno - node.lineno >= 40:
             self.fault("L10", node)
-        if node.decorator_list and not (is_property(node) and len(node.args.args) == 1):
+        if node.decorator_list and not is_property(node) and not is_class_method(node):
             self.fault("L4", node)
-        if node.args.defaults or node.args.kwonlyargs or node.args.vararg or node.args.kwarg:
-            self.fault("L4", node)
-        if node.returns is not None or [arg for arg in node.args.args if arg.annotation is not None]:
+        if node.returns is not None or [part for part in ast.walk(node.args) if getattr(part, "annotation", None)]:
             self.fault("L21", node)
         if node.name == "__init__" and [part for part in ast.walk(node) if isinstance(part, ast.Return)]:
             self.fault("L28", node)
         if node.name in OPERATORS or is_property(node):
             self.read_operator(node)
+
+    def read_arguments(self, node):
+        function = self.parents[node]
+        defaults = [default for default in node.defaults + node.kw_defaults if default is not None]
+        if node.posonlyargs or node.kwarg or [default for default in defaults if not is_plain_value(default)]:
+            self.fault("L4", function)
+        starred = node.vararg is not None or node.kwonlyargs != []
+        named = getattr(function, "name", "")
+        if starred and (named in METHODS or (named in DUNDERS and named != "__init__")):
+            self.fault("L4", function)
+        if starred and isinstance(self.parents[function], ast.ClassDef) and node.args == []:
+            self.fault("L4", function)
 
     def read_operator(self, node):
         if len(node.args.args) != OPERATORS.get(node.name, 1) or changes(node):
@@ -177,7 +218,8 @@ class Reader:
             self.fault("L5", node)
         names = [part.name for part in node.body if isinstance(part, ast.FunctionDef)]
         plain = [part for part in node.body if isinstance(part, ast.FunctionDef) or is_docstring(part)]
-        if len(plain) != len(node.body) or len(names) != len(set(names)):
+        values = [part.targets[0].id for part in node.body if is_class_value(part)]
+        if len(plain) + len(values) != len(node.body) or len(names + values) != len(set(names + values)):
             self.fault("L5", node)
         if "__getitem__" in names and "__iter__" not in names:
             self.fault("L5", node)
@@ -209,7 +251,8 @@ class Reader:
             return
         tested = isinstance(parent, ast.Call) and ast.unparse(parent.func) == "isinstance" and node.id in KINDS
         based = isinstance(parent, ast.ClassDef) and node.id == "ValueError"
-        told = isinstance(parent, ast.FunctionDef) and node in parent.decorator_list and node.id == "property"
+        told = isinstance(parent, ast.FunctionDef) and node in parent.decorator_list
+        told = told and node.id in {"property", "classmethod"}
         raised = called and isinstance(self.parents[parent], ast.Raise) and node.id == "TypeError"
         if not tested and not based and not told and not raised and not (called and node.id == "super"):
             self.fault("L8", node)
@@ -223,9 +266,11 @@ class Reader:
             self.fault("L12", node)
         elif node.attr.startswith("_") and not self.in_class(node):
             self.fault("L12", node)
-        elif node.attr in VIEWS and not self.on_the_spot(parent):
+        elif node.attr in VIEWS and not self.on_the_spot(parent) and not self.of_a_view(parent):
             self.fault("L23", node)
-        elif isinstance(parent, ast.Call) and parent.func is node and node.attr not in METHODS:
+        elif isinstance(node.ctx, ast.Store) and node.attr in self.own:
+            self.fault("L18", node)
+        elif isinstance(parent, ast.Call) and parent.func is node and node.attr not in METHODS | self.own:
             self.fault("L25", node)
 
     def in_class(self, node):
@@ -240,6 +285,12 @@ class Reader:
             return self.on_the_spot(parent)
         return isinstance(parent, (ast.For, ast.comprehension)) and parent.iter is node
 
+    def of_a_view(self, node):
+        """Return whether a view stands alone in `sum` and the like."""
+        parent = self.parents[node]
+        alone = isinstance(parent, ast.Call) and parent.args == [node] and not parent.keywords
+        return alone and ast.unparse(parent.func) in OF_A_VIEW
+
     def measured_or_sorted(self, node):
         parent = self.parents[node]
         alone = isinstance(parent, ast.Call) and len(parent.args) == 1 and not parent.keywords
@@ -251,28 +302,44 @@ class Reader:
 
     def read_keyword(self, node):
         parent = self.parents[node]
-        plain = isinstance(parent, ast.Call) and ast.unparse(parent.func) == "sorted" and node.arg == "reverse"
-        if not plain or not isinstance(node.value, ast.Constant):
+        called = ast.unparse(parent.func) if isinstance(parent, ast.Call) else ""
+        ordered = called == "sorted" and node.arg == "reverse" and isinstance(node.value, ast.Constant)
+        greatest = called in {"min", "max"} and node.arg == "default" and len(parent.args) == 1
+        if not ordered and not greatest and called.rpartition(".")[2] not in self.own:
             self.fault("L22", node)
+
+    def read_Compare(self, node):
+        for operator, other in zip(node.ops, node.comparators):
+            if isinstance(operator, (ast.Is, ast.IsNot)) and ast.unparse(other) not in {"None", "True", "False"}:
+                self.fault("L20", node)
+
+    def read_Starred(self, node):
+        parent = self.parents[node]
+        passed = isinstance(parent, ast.Call) and isinstance(node.value, ast.Name) and not parent.keywords
+        if not passed and not isinstance(node.ctx, ast.Store):
+            self.fault("L7", node)
 
     def read_Call(self, node):
         name = ast.unparse(node.func)
+        if not isinstance(node.func, (ast.Name, ast.Attribute)):
+            self.fault("L3", node)
         if name in OF_A_LIST and not isinstance(node.args[0], OF_A_LIST[name]):
-            self.fault("L7", node)
+            if name not in OF_A_VIEW or not is_view(node.args[0]):
+                self.fault("L7", node)
         if name in ON_THE_SPOT and not self.on_the_spot(node):
             self.fault("L23", node)
         if name == "set" and not self.measured_or_sorted(node):
             self.fault("L24", node)
 
     def read_For(self, node):
-        walked = {part.id for part in ast.walk(node.iter) if isinstance(part, ast.Name)}
+        walked = {ast.unparse(part) for part in ast.walk(node.iter) if isinstance(part, (ast.Name, ast.Attribute))}
         for part in [part for line in node.body for part in ast.walk(line)]:
             changed = None
             if isinstance(part, ast.Attribute) and part.attr in CHANGING:
                 changed = part.value
             elif isinstance(part, ast.Subscript) and isinstance(part.ctx, ast.Store):
                 changed = part.value
-            if isinstance(changed, ast.Name) and changed.id in walked:
+            if changed is not None and ast.unparse(changed) in walked:
                 self.fault("L23", part)
 
     def read_Raise(self, node):
@@ -285,9 +352,16 @@ class Reader:
             self.fault("L7", node)
 
 
-def faults(source):
-    """Return the faults of a file, each with its rule and its line."""
-    return Reader(source).faults()
+def faults(source, own=frozenset()):
+    """Return the faults of a file, each with its rule and its line, beside the package's own methods."""
+    return Reader(source, own).faults()
+
+
+def own_methods(source):
+    """Return the names of the plain methods and the class methods that a file defines."""
+    classes = [node for node in ast.parse(source).body if isinstance(node, ast.ClassDef)]
+    functions = [part for node in classes for part in node.body if isinstance(part, ast.FunctionDef)]
+    return {part.name for part in functions if part.name not in DUNDERS and not is_property(part)}
 
 
 def imports(source):
@@ -310,8 +384,10 @@ def methods(source, name):
 
 
 def called_names(function):
+    """Return the names of the functions and methods that a function calls."""
     calls = [node.func for node in ast.walk(function) if isinstance(node, ast.Call)]
-    return {call.id for call in calls if isinstance(call, ast.Name)}
+    names = {call.id for call in calls if isinstance(call, ast.Name)}
+    return names | {call.attr for call in calls if isinstance(call, ast.Attribute)}
 
 
 def changing_behind_operators(sources):

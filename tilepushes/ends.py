@@ -42,16 +42,26 @@ def rows_after(row, number):
     return rows_after_pushes(row, number)
 
 
-def ends_of(row):
-    """Return the ascending list of all still rows to which some list of pushes leads."""
-    check_row(row)
+def all_ends(row):
+    """Return the ascending list of all ends of a row. Raise TooLarge if it has too many tiles."""
     check_length(row)
     return rows_after_pushes(row, len(row))
 
 
+def ends_of(row):
+    """Return the ascending list of all still rows to which some list of pushes leads."""
+    check_row(row)
+    return all_ends(row)
+
+
+def least_length(rows):
+    """Return the least number of tiles of some rows."""
+    return min([len(row) for row in rows])
+
+
 def fewest_tiles(row):
     """Return the least number of tiles of an end."""
-    return min([len(end) for end in ends_of(row)])
+    return least_length(ends_of(row))
 
 
 def find_pushes(row, goal):
